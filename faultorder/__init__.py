@@ -1,0 +1,1 @@
+"""Faultorder: machines that fail part by part, where the order counts."""

@@ -1,0 +1,31 @@
+"""The examples of the document, as they stand there."""
+
+import unittest
+
+from faultorder.errors import BadPlant
+from faultorder.plants import Plant
+from faultorder.runs import Run
+
+
+class TestExamples(unittest.TestCase):
+    def test_a_spare_part(self):
+        plant = Plant([("a", "hot"), ("b", "hot"), ("s", "cold")],
+                      [("use", "spare", ("a", "s")), ("both", "all", ("use", "b"))], [], "both")
+        run = Run(plant)
+        self.assertEqual((run.do(("fail", "a")), run.state, run.possible()),
+                         (("a",), (("a",), (("use", "s"),), ()), [("fail", "b"), ("fail", "s"), ("mend", "a")]))
+
+    def test_a_gate_without_inputs(self):
+        with self.assertRaises(BadPlant) as caught:
+            Plant([("a", "hot")], [("g", "all", ())], [], "g")
+        self.assertEqual(caught.exception.part, 1)
+
+    def test_a_cause(self):
+        plant = Plant([("a", "hot"), ("b", "hot"), ("c", "hot")], [("two", "least", 2, ("a", "b", "c"))],
+                      [("a", ("c",))], "two")
+        run = Run(plant)
+        self.assertEqual((run.do(("fail", "a")), run.stopped), (("a", "c"), True))
+
+
+if __name__ == "__main__":
+    unittest.main()
