@@ -1,5 +1,8 @@
 """Values, plants and rows for the tests, always the same ones."""
 
+from faultorder.plants import Plant
+from tests.model import Model
+
 NAMES = ["a", "bb", "ccc", "dddd", "eeeee", "ffffff", "g", "hh", "iii", "jjjj", "kkkkk", "llllll",
          "m", "nn", "ooo", "zzzzzz"]
 
@@ -32,8 +35,11 @@ class Choices:
         return tuple([left.pop(self.below(len(left))) for _ in range(many)])
 
 
-def make_gate(choices, name, parts, names):
-    word = choices.one(["all", "any", "least", "before", "before", "spare", "spare"])
+WORDS = ["all", "any", "least", "before", "before", "spare", "spare"]
+
+
+def make_gate(choices, name, parts, names, words):
+    word = choices.one(words)
     if word == "before" and len(names) > 1:
         first, second = choices.some(names)[0], choices.some(names)[0]
         while second == first:
@@ -47,18 +53,51 @@ def make_gate(choices, name, parts, names):
     return (name, "any" if word == "any" else "all", inputs)
 
 
-def make_values(seed):
+def make_values(seed, most_parts=8, most_gates=8, words=WORDS):
     """The four values for a plant; its top may be true at the beginning."""
     choices = Choices(seed)
     names = choices.some(NAMES, 16)
     while len(names) < 2:
         names = choices.some(NAMES, 16)
-    many = min(8, 1 + choices.below(len(names) - 1))
+    many = min(most_parts, 1 + choices.below(len(names) - 1))
     parts = list(names[:many])
     gates = []
-    for name in names[many:many + 8]:
-        gates.append(make_gate(choices, name, parts, parts + [gate[0] for gate in gates]))
+    for name in names[many:many + most_gates]:
+        gates.append(make_gate(choices, name, parts, parts + [gate[0] for gate in gates], words))
     known = parts + [gate[0] for gate in gates]
     causes = [(choices.one(known), choices.some(parts, 3)) for _ in range(choices.below(5))]
     kinds = [(part, choices.one(["hot", "hot", "cold"])) for part in parts]
     return kinds, gates, causes, choices.one(gates)[0]
+
+
+def made_plants(count, most_parts=8, most_gates=8, words=WORDS):
+    """So many plants that are the same each time, with the values they are made of."""
+    found = []
+    seed = 0
+    while len(found) < count:
+        values = make_values(seed, most_parts, most_gates, words)
+        if not Model(*values).is_true(values[3]):
+            found.append((values, Plant(*values)))
+        seed += 1
+    return found
+
+
+def plant_of(parts, gates, causes=(), top=None):
+    """A plant with parts as words, those that are cold behind a star; the top is the last gate."""
+    kinds = [(word.strip("*"), "cold" if word.startswith("*") else "hot") for word in parts.split()]
+    return Plant(kinds, gates, list(causes), top or gates[-1][0])
+
+
+def values_of(plant):
+    """The four values that a plant is made of."""
+    return plant.parts, plant.gates, plant.causes, plant.top
+
+
+def fails(text):
+    """The failures of the parts in a text of words."""
+    return [("fail", name) for name in text.split()]
+
+
+def events(text):
+    """A row: -a for the mend of a, else a failure."""
+    return [("mend", word[1:]) if word.startswith("-") else ("fail", word) for word in text.split()]

@@ -19,6 +19,14 @@ class Model:
         self.began = {}
         self.began = self.stretches()
 
+    def twin(self):
+        """Another model that goes on from the same moment."""
+        other = Model.__new__(Model)
+        other.__dict__.update(self.__dict__)
+        other.failed = set(self.failed)
+        other.uses = dict(self.uses)
+        return other
+
     def take(self):
         for name in self.uses:
             if self.uses[name] == "" or self.uses[name] in self.failed:

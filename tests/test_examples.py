@@ -3,6 +3,7 @@
 import unittest
 
 from faultorder.errors import BadPlant
+from faultorder.orders import least_orders, orders, stops
 from faultorder.plants import Plant
 from faultorder.runs import Run
 
@@ -20,11 +21,17 @@ class TestExamples(unittest.TestCase):
             Plant([("a", "hot")], [("g", "all", ())], [], "g")
         self.assertEqual(caught.exception.part, 1)
 
+    def test_an_order_that_counts(self):
+        plant = Plant([("a", "hot"), ("b", "hot")], [("g", "before", "a", "b")], [], "g")
+        self.assertEqual((orders(plant), stops(plant)),
+                         ([("a", "b")], {(): "never", ("a",): "never", ("a", "b"): "sometimes", ("b",): "never"}))
+
     def test_a_cause(self):
         plant = Plant([("a", "hot"), ("b", "hot"), ("c", "hot")], [("two", "least", 2, ("a", "b", "c"))],
                       [("a", ("c",))], "two")
         run = Run(plant)
-        self.assertEqual((run.do(("fail", "a")), run.stopped), (("a", "c"), True))
+        self.assertEqual((run.do(("fail", "a")), run.stopped, least_orders(plant)),
+                         (("a", "c"), True, [("a",), ("b", "c"), ("c", "b")]))
 
 
 if __name__ == "__main__":

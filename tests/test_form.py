@@ -11,14 +11,28 @@ import faultorder
 
 FOLDER = pathlib.Path(faultorder.__file__).parent
 # The modules in their order: each one imports only from those ahead of it.
-MODULES = ["errors", "plants", "runs"]
-FUNCTIONS = {"plants": {"is_name": ["value"]}, "runs": {"at": ["plant", "state"]}}
-METHODS = {
-    "plants": {"Plant": {"__init__": ["parts", "gates", "causes", "top"], "__eq__": ["other"]}},
-    "runs": {"Run": {"__init__": ["plant"], "truths": [], "possible": [], "do": ["event"], "do_all": ["events"],
-                     "copy": []}},
+MODULES = ["errors", "plants", "runs", "states", "orders", "machines", "alike"]
+FUNCTIONS = {
+    "plants": ["is_name(value)"],
+    "runs": ["at(plant, state)"],
+    "states": ["reached(plant, *, mends=True, most=2000)", "is_reached(plant, value, *, mends=True)"],
+    "orders": ["orders(plant)", "least_orders(plant)", "stops(plant)", "steady(plant)", "is_steady(plant, value)"],
+    "machines": ["machine_of(plant, *, most=2000)"],
+    "alike": ["compare(one, other, *, most=20000)", "is_relation(one, other, value)",
+              "are_different(one, other, value)"],
 }
-PROPERTIES = {"plants": {"Plant": ["parts", "gates", "causes", "top"]}, "runs": {"Run": ["plant", "state", "stopped"]}}
+METHODS = {
+    "plants": {"Plant": ["__init__(self, parts, gates, causes, top)", "__eq__(self, other)"]},
+    "runs": {"Run": ["__init__(self, plant)", "truths(self)", "possible(self)", "do(self, event)",
+                     "do_all(self, events)", "copy(self)"]},
+    "machines": {"Machine": ["__init__(self, parts, rows)", "__eq__(self, other)", "__len__(self)",
+                             "play(self, events)", "smallest(self)"]},
+}
+PROPERTIES = {"plants": {"Plant": ["parts", "gates", "causes", "top"]},
+              "runs": {"Run": ["plant", "state", "stopped"]},
+              "machines": {"Machine": ["parts", "rows"]}}
+# What may be imported from the standard library.
+LIBRARY = {"math": ["gcd", "lcm"]}
 BUILTINS = ["len", "range", "enumerate", "zip", "min", "max", "sum", "abs", "sorted", "reversed", "int", "str", "bool",
             "list", "tuple", "dict", "set", "isinstance", "repr", "any", "all", "divmod", "ValueError", "super",
             "property"]
@@ -32,25 +46,40 @@ def source(name):
     return (FOLDER / (name + ".py")).read_text(encoding="utf-8")
 
 
+def defined(name):
+    """The names that a file itself defines."""
+    found = []
+    for node in ast.parse(source(name)).body:
+        if isinstance(node, (ast.FunctionDef, ast.ClassDef)):
+            found.append(node.name)
+        if isinstance(node, ast.Assign):
+            found.extend([target.id for target in node.targets])
+    return found
+
+
 def nodes(name, *kinds):
     return [node for node in ast.walk(ast.parse(source(name))) if isinstance(node, kinds)]
+
+
+def signature(value):
+    return value.__name__ + str(inspect.signature(value))
 
 
 class TestInterface(unittest.TestCase):
     def test_functions(self):
         for name, functions in FUNCTIONS.items():
-            for function, arguments in functions.items():
-                value = getattr(module(name), function)
+            for told in functions:
+                value = getattr(module(name), told.partition("(")[0])
                 self.assertEqual(value.__module__, "faultorder." + name)
-                self.assertEqual(list(inspect.signature(value).parameters), arguments)
+                self.assertEqual(signature(value), told)
 
     def test_methods_stand_in_the_class_itself(self):
         for name, classes in METHODS.items():
             for kind, methods in classes.items():
                 value = getattr(module(name), kind)
                 self.assertEqual(value.__module__, "faultorder." + name)
-                for method, arguments in methods.items():
-                    self.assertEqual(list(inspect.signature(vars(value)[method]).parameters), ["self"] + arguments)
+                for told in methods:
+                    self.assertEqual(signature(vars(value)[told.partition("(")[0]]), told)
 
     def test_properties_stand_in_the_class_itself(self):
         for name, classes in PROPERTIES.items():
@@ -77,15 +106,45 @@ class TestLanguage(unittest.TestCase):
         for index, name in enumerate(MODULES):
             self.assertEqual(nodes(name, ast.Import), [])
             for node in nodes(name, ast.ImportFrom):
-                self.assertIn(node.module, ["faultorder." + other for other in MODULES[:index]])
                 for alias in node.names:
-                    self.assertEqual(getattr(module(name), alias.name).__module__, node.module)
+                    self.assertIsNone(alias.asname)
+                    if node.module in LIBRARY:
+                        self.assertIn(alias.name, LIBRARY[node.module])
+                    else:
+                        self.assertIn(node.module, ["faultorder." + other for other in MODULES[:index]])
+                        self.assertIn(alias.name, defined(node.module.partition(".")[2]))
 
     def test_builtins(self):
         for name in MODULES:
             for node in nodes(name, ast.Name):
                 if hasattr(builtins, node.id):
                     self.assertIn(node.id, BUILTINS, name)
+
+    def test_inits_return_nothing(self):
+        for name in MODULES:
+            for node in nodes(name, ast.FunctionDef):
+                if node.name == "__init__":
+                    self.assertEqual([inner for inner in ast.walk(node) if isinstance(inner, ast.Return)], [])
+
+    def test_what_stands_beside_is(self):
+        for name in MODULES:
+            for node in nodes(name, ast.Compare):
+                for sign, right in zip(node.ops, node.comparators):
+                    if isinstance(sign, (ast.Is, ast.IsNot)):
+                        self.assertIsInstance(right, ast.Constant)
+
+    def test_names_that_are_bound_twice(self):
+        for name in MODULES:
+            top = defined(name)
+            self.assertEqual(len(top), len(set(top)))
+            taken = [node.name for node in nodes(name, ast.ClassDef)]
+            for node in nodes(name, ast.ImportFrom):
+                taken.extend([alias.name for alias in node.names])
+            for node in nodes(name, ast.arg):
+                self.assertNotIn(node.arg, taken)
+            for node in nodes(name, ast.Name):
+                if isinstance(node.ctx, ast.Store):
+                    self.assertNotIn(node.id, taken)
 
     def test_what_is_not_used(self):
         for name in MODULES:

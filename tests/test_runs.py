@@ -5,43 +5,13 @@ import unittest
 from faultorder.errors import NoEvent
 from faultorder.plants import Plant
 from faultorder.runs import Run, at
-from tests.making import ANY_VALUES, Choices, make_values
+from tests.making import ANY_VALUES, Choices, events, fails, made_plants, plant_of
 from tests.model import Model
-
-ABC = [("a", "hot"), ("b", "hot"), ("c", "hot")]
-
-
-def fails(text):
-    """The failures of the parts in a text of words."""
-    return [("fail", name) for name in text.split()]
-
-
-def events(text):
-    """A row: -a for the mend of a, else a failure."""
-    return [("mend", word[1:]) if word.startswith("-") else ("fail", word) for word in text.split()]
-
-
-def plant_of(parts, gates, causes=(), top=None):
-    """A plant with parts as words, those that are cold behind a star; the top is the last gate."""
-    kinds = [(word.strip("*"), "cold" if word.startswith("*") else "hot") for word in parts.split()]
-    return Plant(kinds, gates, list(causes), top or gates[-1][0])
 
 
 def shown(run):
     """All that can be asked of a run."""
     return run.plant, run.state, run.stopped, run.truths(), run.possible()
-
-
-def made_plants(count):
-    """So many plants that are the same each time, with the values they are made of."""
-    found = []
-    seed = 0
-    while len(found) < count:
-        values = make_values(seed)
-        if not Model(*values).is_true(values[3]):
-            found.append((values, Plant(*values)))
-        seed += 1
-    return found
 
 
 class TestBeginning(unittest.TestCase):
