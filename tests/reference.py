@@ -4,6 +4,7 @@ Nothing here is taken from the program: `values` are the four values that a plan
 """
 
 import itertools
+from fractions import Fraction
 
 from tests.model import Model
 
@@ -164,3 +165,162 @@ def all_rows(values, length):
     for _ in range(length + 1):
         yield from line
         line = [(row + (event,), led_on(model, event)) for row, model in line for event in model.possible()]
+
+
+def apart(values):
+    """A dict from the pairs of parts that do not commute to the least tuples of parts ahead of that."""
+    graph = Graph(values)
+    marked = unlike(graph)
+    found = {}
+    for parts, model in sequences(values).items():
+        able = [part for word, part in model.possible() if word == "fail"]
+        for pair in itertools.combinations(sorted(able), 2):
+            if pair not in found and not commute_behind(values, marked, parts, pair):
+                found[pair] = parts
+    return found
+
+
+def commute_behind(values, marked, parts, pair):
+    both = [led(values, failures(parts + order)) for order in (pair, pair[::-1])]
+    if both == [None, None]:
+        both = [led(values, failures(parts + (part,))) for part in pair]
+    return None not in both and (both[0].state(), both[1].state()) not in marked
+
+
+def distance(model):
+    """The least number of failures that stop a plant."""
+    line = [model]
+    for number in range(10):
+        if any(has_stopped(model) for model in line):
+            return number
+        line = [led_on(model, event) for model in line for event in model.possible() if event[0] == "fail"]
+    return None
+
+
+def harmful(values):
+    infinite = 1000
+    for row in Graph(values).rows.values():
+        model = led(values, row)
+        before = distance(model)
+        for event in model.possible():
+            if event[0] == "mend":
+                now = distance(led_on(model, event))
+                if (infinite if now is None else now) < (infinite if before is None else before):
+                    return row, event[1]
+    return None
+
+
+def saving(values):
+    found = []
+    for order in least_orders(values):
+        for part in sorted(name for name, _ in values[0]):
+            model = led(values, failures((part,) + order)) if part not in order else None
+            if model is not None and not has_stopped(model):
+                found.append((order, part))
+    return found
+
+
+def drawn(values, odds, count):
+    """The chances (Fractions) of the first stop by each event, summed up over all rows of draws."""
+    found = {}
+    nothing = 1 - sum(odds.values())
+    line = [(1, Model(*values))]
+    for _ in range(count):
+        longer = []
+        for chance, model in line:
+            longer.append((chance * nothing, model))
+            for event, worth in odds.items():
+                behind = led_on(model, event)
+                if behind is None:
+                    longer.append((chance * worth, model))
+                elif has_stopped(behind):
+                    found[event] = found.get(event, 0) + chance * worth
+                else:
+                    longer.append((chance * worth, behind))
+        line = longer
+    return {event: found[event] for event in sorted(found) if found[event]}
+
+
+def mean(values, odds):
+    """The mean number of draws up to the first stop: the solution of one equation for each state."""
+    graph = Graph(values)
+    steps = {state: {event: behind for event, behind in graph.steps[state].items() if event in odds}
+             for state in graph.rows}
+    states = [graph.start()]
+    for state in states:
+        if not graph.stopped[state]:
+            states.extend(sorted({behind for behind in steps[state].values() if behind not in states}))
+    sure = {state for state in states if graph.stopped[state]}
+    for _ in states:
+        sure |= {state for state in states if any(behind in sure for behind in steps[state].values())}
+    if sure != set(states):
+        return None
+    going = [state for state in states if not graph.stopped[state]]
+    table = [[equation_factor(graph, steps, odds, state, other) for other in going] + [Fraction(1)] for state in going]
+    return solved(table)[0]
+
+
+def equation_factor(graph, steps, odds, state, other):
+    factor = sum((odds[event] for event in steps[state]), Fraction(0)) if state == other else Fraction(0)
+    return factor - sum((odds[event] for event, behind in steps[state].items() if behind == other), Fraction(0))
+
+
+def solved(table):
+    """The solution of equations, by making all other factors of a column 0."""
+    for at in range(len(table)):
+        best = next(k for k in range(at, len(table)) if table[k][at])
+        table[at], table[best] = table[best], table[at]
+        table[at] = [value / table[at][at] for value in table[at]]
+        for other in range(len(table)):
+            if other != at and table[other][at]:
+                table[other] = [value - table[other][at] * lead for value, lead in zip(table[other], table[at])]
+    return [row[-1] for row in table]
+
+
+def seen(values, sensors, row):
+    """What is seen of a row."""
+    shown = [shows(led(values, row[:many]), sensors) for many in range(len(row) + 1)]
+    return tuple([show for at, show in enumerate(shown) if at == 0 or show != shown[at - 1]])
+
+
+def is_near(model, ahead):
+    return not has_stopped(model) and distance(model) is not None and distance(model) <= ahead
+
+
+def looking_same(values, sensors, length):
+    """For the rows up to a length that never stop: (state, state) to the least number of events of two that look so.
+
+    Of rows to the same state of which the same is seen only the first one goes on.
+    """
+    by_seen = {}
+    line = [(0, Model(*values), (shows(Model(*values), sensors),))]
+    for many, model, told_so_far in line:
+        states = by_seen.setdefault(told_so_far, {})
+        if model.state() in states:
+            continue
+        states[model.state()] = many
+        for event in model.possible() if many < length else []:
+            behind = led_on(model, event)
+            if not has_stopped(behind):
+                now = shows(behind, sensors)
+                line.append((many + 1, behind, told_so_far + (now,) if now != told_so_far[-1] else told_so_far))
+    found = {}
+    for states in by_seen.values():
+        for one in states:
+            for other in states:
+                many = states[one] + states[other]
+                found[one, other] = min(many, found.get((one, other), many))
+    return found
+
+
+def shows(model, sensors):
+    truths = model.truths()
+    return tuple([truths[name] for name in sensors])
+
+
+def missed(values, pairs, ahead):
+    """The least number of events of two rows of which only the first one leads right ahead of a stop, or None."""
+    graph = Graph(values)
+    models = {state: led(values, graph.rows[state]) for state in graph.rows}
+    near = {state: (is_near(models[state], 1), is_near(models[state], ahead)) for state in models}
+    return min([many for (one, other), many in pairs.items() if near[one][0] and not near[other][1]], default=None)

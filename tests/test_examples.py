@@ -2,10 +2,13 @@
 
 import unittest
 
+from faultorder.chances import chance, mean
+from faultorder.commuting import apart
 from faultorder.errors import BadPlant
 from faultorder.orders import least_orders, orders, stops
 from faultorder.plants import Plant
 from faultorder.runs import Run
+from faultorder.watching import foretold
 
 
 class TestExamples(unittest.TestCase):
@@ -23,8 +26,8 @@ class TestExamples(unittest.TestCase):
 
     def test_an_order_that_counts(self):
         plant = Plant([("a", "hot"), ("b", "hot")], [("g", "before", "a", "b")], [], "g")
-        self.assertEqual((orders(plant), stops(plant)),
-                         ([("a", "b")], {(): "never", ("a",): "never", ("a", "b"): "sometimes", ("b",): "never"}))
+        self.assertEqual((orders(plant), stops(plant), apart(plant, "a", "b")),
+                         ([("a", "b")], {(): "never", ("a",): "never", ("a", "b"): "sometimes", ("b",): "never"}, ()))
 
     def test_a_cause(self):
         plant = Plant([("a", "hot"), ("b", "hot"), ("c", "hot")], [("two", "least", 2, ("a", "b", "c"))],
@@ -32,6 +35,15 @@ class TestExamples(unittest.TestCase):
         run = Run(plant)
         self.assertEqual((run.do(("fail", "a")), run.stopped, least_orders(plant)),
                          (("a", "c"), True, [("a",), ("b", "c"), ("c", "b")]))
+
+    def test_chances(self):
+        plant = Plant([("a", "hot"), ("b", "hot")], [("g", "all", ("a", "b"))], [], "g")
+        odds = {("fail", "a"): (1, 2), ("fail", "b"): (1, 2)}
+        self.assertEqual((chance(plant, odds, 2), mean(plant, odds)), ((1, 2), (3, 1)))
+
+    def test_a_stop_that_is_not_foretold(self):
+        plant = Plant([("a", "hot"), ("b", "hot")], [("g", "all", ("a", "b"))], [], "g")
+        self.assertEqual(foretold(plant, ["a"]), ("unwarned", (("fail", "b"),), ()))
 
 
 if __name__ == "__main__":

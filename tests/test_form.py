@@ -11,7 +11,8 @@ import faultorder
 
 FOLDER = pathlib.Path(faultorder.__file__).parent
 # The modules in their order: each one imports only from those ahead of it.
-MODULES = ["errors", "plants", "runs", "states", "orders", "machines", "alike"]
+MODULES = ["errors", "plants", "runs", "states", "orders", "machines", "alike", "commuting", "distances", "chances",
+           "watching"]
 FUNCTIONS = {
     "plants": ["is_name(value)"],
     "runs": ["at(plant, state)"],
@@ -20,6 +21,12 @@ FUNCTIONS = {
     "machines": ["machine_of(plant, *, most=2000)"],
     "alike": ["compare(one, other, *, most=20000)", "is_relation(one, other, value)",
               "are_different(one, other, value)"],
+    "commuting": ["commuting(plant)", "apart(plant, p, q)"],
+    "distances": ["distance(plant, state)", "harmful(plant, *, most=2000)", "saving(plant)"],
+    "chances": ["chance(plant, odds, count)", "shares(plant, odds, count)", "mean(plant, odds)"],
+    "watching": ["seen(plant, sensors, events)", "in_danger(plant, state, *, ahead=1)",
+                 "foretold(plant, sensors, *, ahead=1)", "is_foretold(plant, sensors, value, *, ahead=1)",
+                 "is_unwarned(plant, sensors, value, *, ahead=1)", "least_sensors(plant, names, *, ahead=1)"],
 }
 METHODS = {
     "plants": {"Plant": ["__init__(self, parts, gates, causes, top)", "__eq__(self, other)"]},
