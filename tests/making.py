@@ -101,3 +101,12 @@ def fails(text):
 def events(text):
     """A row: -a for the mend of a, else a failure."""
     return [("mend", word[1:]) if word.startswith("-") else ("fail", word) for word in text.split()]
+
+
+def is_hashable(value):
+    """Whether a value can be a key of a dict."""
+    try:
+        hash(value)
+    except TypeError:
+        return False
+    return True

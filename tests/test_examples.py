@@ -5,6 +5,7 @@ import unittest
 from faultorder.chances import chance, mean
 from faultorder.commuting import apart
 from faultorder.errors import BadPlant
+from faultorder.mending import kept, lasts, least_crew
 from faultorder.orders import least_orders, orders, stops
 from faultorder.plants import Plant
 from faultorder.runs import Run
@@ -41,9 +42,10 @@ class TestExamples(unittest.TestCase):
         odds = {("fail", "a"): (1, 2), ("fail", "b"): (1, 2)}
         self.assertEqual((chance(plant, odds, 2), mean(plant, odds)), ((1, 2), (3, 1)))
 
-    def test_a_stop_that_is_not_foretold(self):
+    def test_a_crew(self):
         plant = Plant([("a", "hot"), ("b", "hot")], [("g", "all", ("a", "b"))], [], "g")
-        self.assertEqual(foretold(plant, ["a"]), ("unwarned", (("fail", "b"),), ()))
+        self.assertEqual((foretold(plant, ["a"]), least_crew(plant), lasts(plant, 0), kept(plant, 1)[0]),
+                         (("unwarned", (("fail", "b"),), ()), 1, 2, "kept"))
 
 
 if __name__ == "__main__":

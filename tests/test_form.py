@@ -12,7 +12,7 @@ import faultorder
 FOLDER = pathlib.Path(faultorder.__file__).parent
 # The modules in their order: each one imports only from those ahead of it.
 MODULES = ["errors", "plants", "runs", "states", "orders", "machines", "alike", "commuting", "distances", "chances",
-           "watching"]
+           "watching", "explaining", "looking", "mending", "blind"]
 FUNCTIONS = {
     "plants": ["is_name(value)"],
     "runs": ["at(plant, state)"],
@@ -27,6 +27,15 @@ FUNCTIONS = {
     "watching": ["seen(plant, sensors, events)", "in_danger(plant, state, *, ahead=1)",
                  "foretold(plant, sensors, *, ahead=1)", "is_foretold(plant, sensors, value, *, ahead=1)",
                  "is_unwarned(plant, sensors, value, *, ahead=1)", "least_sensors(plant, names, *, ahead=1)"],
+    "explaining": ["explained(plant, sensors, record)", "behind(plant, sensors, record)",
+                   "suspects(plant, sensors, record)"],
+    "looking": ["inspect(plant, states, names)", "is_inspection(plant, states, names, value)", "depth(value)"],
+    "mending": ["kept(plant, crew, *, mendable=None)", "is_plan(plant, crew, mendable, value)",
+                "is_attack(plant, crew, mendable, value)", "lasts(plant, crew, *, mendable=None)", "least_crew(plant)",
+                "least_mendable(plant, crew)"],
+    "blind": ["blind(plant, sensors, crew, *, mendable=None, most=2000)",
+              "is_blind_plan(plant, sensors, crew, mendable, value)",
+              "is_blind_attack(plant, sensors, crew, mendable, value)", "least_eyes(plant, names, crew, *, most=2000)"],
 }
 METHODS = {
     "plants": {"Plant": ["__init__(self, parts, gates, causes, top)", "__eq__(self, other)"]},
