@@ -4,6 +4,7 @@ import unittest
 
 from faultorder.chances import chance, mean
 from faultorder.commuting import apart
+from faultorder.console import replies
 from faultorder.errors import BadPlant
 from faultorder.mending import kept, lasts, least_crew
 from faultorder.orders import least_orders, orders, stops
@@ -46,6 +47,10 @@ class TestExamples(unittest.TestCase):
         plant = Plant([("a", "hot"), ("b", "hot")], [("g", "all", ("a", "b"))], [], "g")
         self.assertEqual((foretold(plant, ["a"]), least_crew(plant), lasts(plant, 0), kept(plant, 1)[0]),
                          (("unwarned", (("fail", "b"),), ()), 1, 2, "kept"))
+
+    def test_a_console(self):
+        plant = Plant([("a", "hot"), ("b", "hot")], [("g", "all", ("a", "b"))], [], "g")
+        self.assertEqual(replies(plant, "fail a\nstate\nmend a\ncrew\ncrew 2\n"), ["a", "a", "none", "1", "unknown"])
 
 
 if __name__ == "__main__":

@@ -12,7 +12,7 @@ import faultorder
 FOLDER = pathlib.Path(faultorder.__file__).parent
 # The modules in their order: each one imports only from those ahead of it.
 MODULES = ["errors", "plants", "runs", "states", "orders", "machines", "alike", "commuting", "distances", "chances",
-           "watching", "explaining", "looking", "mending", "blind"]
+           "watching", "explaining", "looking", "mending", "blind", "bench", "judge", "texts", "console"]
 FUNCTIONS = {
     "plants": ["is_name(value)"],
     "runs": ["at(plant, state)"],
@@ -36,6 +36,9 @@ FUNCTIONS = {
     "blind": ["blind(plant, sensors, crew, *, mendable=None, most=2000)",
               "is_blind_plan(plant, sensors, crew, mendable, value)",
               "is_blind_attack(plant, sensors, crew, mendable, value)", "least_eyes(plant, names, crew, *, most=2000)"],
+    "judge": ["first_wrong(plant, journal)"],
+    "texts": ["format_plant(plant)", "parse_plant(text)"],
+    "console": ["replies(plant, text)"],
 }
 METHODS = {
     "plants": {"Plant": ["__init__(self, parts, gates, causes, top)", "__eq__(self, other)"]},
@@ -43,10 +46,14 @@ METHODS = {
                      "do_all(self, events)", "copy(self)"]},
     "machines": {"Machine": ["__init__(self, parts, rows)", "__eq__(self, other)", "__len__(self)",
                              "play(self, events)", "smallest(self)"]},
+    "bench": {"Bench": ["__init__(self, plant)", "do(self, operation)", "do_all(self, operations)", "undo(self)",
+                        "redo(self)", "log(self)", "ask(self, crew)", "journal(self)", "copy(self)"]},
+    "console": {"Console": ["__init__(self, plant)", "reply(self, line)"]},
 }
 PROPERTIES = {"plants": {"Plant": ["parts", "gates", "causes", "top"]},
               "runs": {"Run": ["plant", "state", "stopped"]},
-              "machines": {"Machine": ["parts", "rows"]}}
+              "machines": {"Machine": ["parts", "rows"]},
+              "bench": {"Bench": ["plant", "state", "stopped"]}}
 # What may be imported from the standard library.
 LIBRARY = {"math": ["gcd", "lcm"]}
 BUILTINS = ["len", "range", "enumerate", "zip", "min", "max", "sum", "abs", "sorted", "reversed", "int", "str", "bool",
